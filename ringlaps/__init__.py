@@ -1,0 +1,1 @@
+"""Ringlaps: houses on a circle that mend their ring."""

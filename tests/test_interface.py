@@ -1,0 +1,70 @@
+"""The names, arguments and places of definition that the interface of the document lists."""
+
+import importlib
+import inspect
+import unittest
+
+FUNCTIONS = {
+    "ringlaps.circle": {
+        "far": "(size, start, end)",
+        "between": "(size, start, place, end)",
+        "covers": "(size, start, place, end)",
+        "places_from": "(size, start, places)",
+        "inside": "(size, start, end, places)",
+        "nearest_ahead": "(size, start, places)",
+        "nearest_behind": "(size, end, places)",
+    },
+    "ringlaps.orders": {
+        "from_least": "(order)",
+        "order_nexts": "(order)",
+        "order_turns": "(size, order)",
+        "descents": "(row)",
+        "count_orders": "(count, turns)",
+        "nth_order": "(places, turns, index)",
+        "order_index": "(order)",
+    },
+}
+
+CLASSES = {
+    "ringlaps.walks": {
+        "Walk": {
+            "__init__": "(self, size, places)",
+            "total": "(self)",
+            "crossings": "(self, place)",
+            "turns": "(self)",
+            "is_closed": "(self)",
+            "backwards": "(self)",
+            "__add__": "(self, other)",
+            "__contains__": "(self, place)",
+            "__iter__": "(self)",
+        },
+    },
+}
+
+
+class InterfaceTest(unittest.TestCase):
+    def test_functions(self):
+        for name, functions in FUNCTIONS.items():
+            module = importlib.import_module(name)
+            for word, signature in functions.items():
+                with self.subTest(module=name, function=word):
+                    function = getattr(module, word)
+                    self.assertTrue(inspect.isfunction(function))
+                    self.assertEqual(function.__module__, name)
+                    self.assertEqual(str(inspect.signature(function)), signature)
+
+    def test_classes(self):
+        for name, classes in CLASSES.items():
+            module = importlib.import_module(name)
+            for word, methods in classes.items():
+                kind = getattr(module, word)
+                self.assertTrue(inspect.isclass(kind))
+                self.assertEqual(kind.__module__, name)
+                for method, signature in methods.items():
+                    with self.subTest(module=name, kind=word, method=method):
+                        found = vars(kind)[method]
+                        self.assertEqual(str(inspect.signature(found)), signature)
+
+
+if __name__ == "__main__":
+    unittest.main()
