@@ -23,6 +23,14 @@ FUNCTIONS = {
         "nth_order": "(places, turns, index)",
         "order_index": "(order)",
     },
+    "ringlaps.letters": {
+        "letter_text": "(letter)",
+        "parse_letter": "(text)",
+    },
+    "ringlaps.nettext": {
+        "format_net": "(net)",
+        "parse_net": "(text)",
+    },
 }
 
 CLASSES = {
@@ -37,6 +45,36 @@ CLASSES = {
             "__add__": "(self, other)",
             "__contains__": "(self, place)",
             "__iter__": "(self)",
+        },
+    },
+    "ringlaps.net": {
+        "Net": {
+            "__init__": "(self, size, nexts, *, befores=None, letters=None)",
+            "houses": "(self)",
+            "letters": "(self)",
+            "nexts": "(self)",
+            "befores": "(self)",
+            "next_of": "(self, house)",
+            "before_of": "(self, house)",
+            "snapshot": "(self)",
+            "clone": "(self)",
+            "tell": "(self, house)",
+            "ask": "(self, house)",
+            "read": "(self, at)",
+            "lose": "(self, at)",
+            "repeat": "(self, at)",
+            "admit": "(self, place, host)",
+            "hold": "(self, house, target)",
+            "set_before": "(self, house, before)",
+            "take_out": "(self, house)",
+        },
+    },
+    "ringlaps.houses": {
+        "House": {
+            "__init__": "(self, size, place, next_house, before=None)",
+            "tell_letter": "(self)",
+            "ask_letter": "(self)",
+            "hear": "(self, letter)",
         },
     },
 }
