@@ -1,5 +1,7 @@
 """Places on a circle: distances, what lies between, and what is met first."""
 
+from ringlaps.errors import OffCircle
+
 
 def far(size, start, end):
     """Return the number of steps up from start to end; a whole turn if they are equal."""
@@ -36,3 +38,9 @@ def nearest_ahead(size, start, places):
 def nearest_behind(size, end, places):
     """Return the place from which end is met soonest going up, or None if there is none."""
     return min(places, key=lambda place: far(size, place, end), default=None)
+
+
+def check_on_circle(size, place):
+    """Raise OffCircle if the place is not one of the places of the circle."""
+    if place < 0 or place >= size:
+        raise OffCircle(place)

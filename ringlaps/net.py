@@ -1,6 +1,7 @@
 """A net of houses on a circle and the letters under way between them."""
 
-from ringlaps.errors import NoHouse, NoLetter, OffCircle, StillNamed, TakenPlace
+from ringlaps.circle import check_on_circle
+from ringlaps.errors import NoHouse, NoLetter, StillNamed, TakenPlace
 from ringlaps.houses import House
 
 
@@ -36,12 +37,12 @@ class Net:
 
     def next_of(self, house):
         """Return the next of the house."""
-        self._check_house(house)
+        self.check_house(house)
         return self._nexts[house]
 
     def before_of(self, house):
         """Return the before of the house, or None if it has none."""
-        self._check_house(house)
+        self.check_house(house)
         return self._befores[house]
 
     def snapshot(self):
@@ -55,12 +56,12 @@ class Net:
 
     def tell(self, house):
         """Let the house write to its next that it is its next, and return the letter."""
-        self._check_house(house)
+        self.check_house(house)
         return self._send(self._house_at(house).tell_letter())
 
     def ask(self, house):
         """Let the house ask its next for its before, and return the letter."""
-        self._check_house(house)
+        self.check_house(house)
         return self._send(self._house_at(house).ask_letter())
 
     def read(self, at):
@@ -94,36 +95,45 @@ class Net:
 
     def admit(self, place, host):
         """Admit a new house at the place with the host, or itself, as its next."""
-        self._check_on_circle(place)
-        if place in self._nexts:
-            raise TakenPlace(place)
+        self.check_free(place)
         if host != place:
-            self._check_house(host)
+            self.check_house(host)
         self._nexts[place] = host
         self._befores[place] = None
 
     def hold(self, house, target):
         """Make the target the next of the house and return the old next."""
-        self._check_house(house)
-        self._check_house(target)
+        self.check_house(house)
+        self.check_house(target)
         old = self._nexts[house]
         self._nexts[house] = target
         return old
 
     def set_before(self, house, before):
         """Set the before of the house; None takes it away."""
-        self._check_house(house)
+        self.check_house(house)
         if before is not None:
-            self._check_house(before)
+            self.check_house(before)
         self._befores[house] = before
 
     def take_out(self, house):
         """Remove a house that no other house and no letter names."""
-        self._check_house(house)
+        self.check_house(house)
         if self._is_named(house):
             raise StillNamed(house)
         del self._nexts[house]
         del self._befores[house]
+
+    def check_house(self, place):
+        """Raise NoHouse if there is no house at the place."""
+        if place not in self._nexts:
+            raise NoHouse(place)
+
+    def check_free(self, place):
+        """Raise OffCircle or TakenPlace if no new house can be admitted at the place."""
+        check_on_circle(self.size, place)
+        if place in self._nexts:
+            raise TakenPlace(place)
 
     def _is_named(self, house):
         others = [other for other in self._nexts if other != house]
@@ -138,31 +148,23 @@ class Net:
         self._letters.append(letter)
         return letter
 
-    def _check_on_circle(self, place):
-        if place < 0 or place >= self.size:
-            raise OffCircle(place)
-
-    def _check_house(self, place):
-        if place not in self._nexts:
-            raise NoHouse(place)
-
     def _check_letter(self, at):
         if at < 0 or at >= len(self._letters):
             raise NoLetter(at)
 
     def _check_places(self):
         for house in self.houses():
-            self._check_on_circle(house)
+            check_on_circle(self.size, house)
         for house in self.houses():
-            self._check_house(self._nexts[house])
+            self.check_house(self._nexts[house])
 
     def _take_befores(self, befores):
         for house in sorted(befores):
-            self._check_house(house)
-            self._check_house(befores[house])
+            self.check_house(house)
+            self.check_house(befores[house])
             self._befores[house] = befores[house]
 
     def _check_letters(self):
         for letter in self._letters:
             for place in letter[1:]:
-                self._check_house(place)
+                self.check_house(place)

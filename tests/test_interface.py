@@ -31,6 +31,44 @@ FUNCTIONS = {
         "format_net": "(net)",
         "parse_net": "(text)",
     },
+    "ringlaps.pieces": {
+        "way": "(net, start, end)",
+        "way_length": "(net, start, end)",
+        "house_at": "(net, start, distance)",
+        "ring_of": "(net, house)",
+        "on_ring": "(net, house)",
+        "gate_of": "(net, house)",
+        "piece_of": "(net, house)",
+        "pieces": "(net)",
+        "least_of": "(net, house)",
+        "turns_of": "(net, house)",
+        "arrows_over": "(net, house, place)",
+    },
+    "ringlaps.sayings": {
+        "sayings": "(net)",
+        "holds_true": "(net, saying)",
+        "first_untrue": "(net)",
+        "piece_is_true": "(net, house)",
+    },
+    "ringlaps.marks": {
+        "marks_of": "(net, house)",
+        "mark_row": "(net, house)",
+        "judge_marks": "(net, turns, marks)",
+    },
+    "ringlaps.calm": {
+        "calm_round": "(net)",
+        "each_held_once": "(net)",
+        "settle": "(net)",
+    },
+    "ringlaps.ends": {
+        "told_end": "(net)",
+        "rooms": "(net)",
+        "change_bounds": "(net)",
+        "far_sum": "(net)",
+        "loss": "(net)",
+        "is_plain": "(net)",
+        "ends_plain": "(net)",
+    },
 }
 
 CLASSES = {
