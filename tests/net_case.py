@@ -80,9 +80,23 @@ def random_call(chance, net, words=CALLS, most=7):
         net.repeat(chance.randrange(len(letters)))
 
 
+def some_nexts(chance, size, most):
+    """Return random nexts, by half of the calls those of rings that may go round several times."""
+    nexts = random_nexts(chance, size, most)
+    if chance.random() < 0.5:
+        return nexts
+    order = chance.sample(list(nexts), len(nexts))
+    at = chance.choice([0, 0, chance.randrange(len(order))])
+    rings = ring_nexts(*[part for part in (order[:at], order[at:]) if part])
+    if chance.random() < 0.5:
+        house = chance.choice(order)
+        rings[house] = nexts[house]
+    return rings
+
+
 def true_net(chance, size, most=6, calls=20):
     """Return a net in which all sayings are true, with letters under way."""
-    net = Net(size, random_nexts(chance, size, most))
+    net = Net(size, some_nexts(chance, size, most))
     for _ in range(chance.randrange(calls)):
         random_call(chance, net, CALLS_WITH_ADMIT, most)
     return net
@@ -90,7 +104,7 @@ def true_net(chance, size, most=6, calls=20):
 
 def wild_net(chance, size, most=6, letters=3):
     """Return a net with befores and letters that may say what is untrue."""
-    nexts = random_nexts(chance, size, most)
+    nexts = some_nexts(chance, size, most)
     houses = list(nexts)
     befores = {house: chance.choice(houses) for house in houses if chance.random() < 0.4}
     rows = [random_letter(chance, houses) for _ in range(chance.randrange(letters + 1))]
@@ -102,7 +116,7 @@ def random_letter(chance, houses):
     return (word, *[chance.choice(houses) for _ in range(3 if word == "answer" else 2)])
 
 
-def mixed_nets(chance, count, sizes=(1, 2, 3, 5, 8, 11), most=6):
+def mixed_nets(chance, count, sizes=(1, 3, 6, 8, 11, 11), most=6):
     """Return many nets, by turns true ones and wild ones."""
     found = []
     for at in range(count):

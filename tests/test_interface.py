@@ -69,6 +69,32 @@ FUNCTIONS = {
         "is_plain": "(net)",
         "ends_plain": "(net)",
     },
+    "ringlaps.logs": {
+        "is_faithful": "(net, house, target)",
+        "apply_changes": "(net, changes)",
+        "first_unfaithful": "(net, changes)",
+    },
+    "ringlaps.clear": {
+        "distances_to": "(net, z)",
+        "clear_fault": "(net, z)",
+        "is_clear": "(net, z)",
+        "clear_towards": "(net, house)",
+        "judge_clear": "(net, z, distances)",
+    },
+    "ringlaps.cures": {
+        "let_go": "(net, house)",
+        "take_newcomer": "(net, house, place)",
+        "meet": "(net, house, other)",
+        "heal": "(net)",
+        "healing_targets": "(net, house)",
+        "unite": "(net)",
+    },
+    "ringlaps.meaning": {
+        "meaning": "(net)",
+        "admitted": "(size, meaning, place, host)",
+        "released": "(size, meaning, house)",
+        "row_marks": "(size, turns, row)",
+    },
 }
 
 CLASSES = {

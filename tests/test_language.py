@@ -14,6 +14,13 @@ ALLOWED_BUILTINS = """
     OverflowError RuntimeError NotImplementedError AttributeError StopIteration NotImplemented
 """.split()
 
+ALLOWED_METHODS = """
+    append clear copy count endswith extend find get index insert isalnum isalpha isdigit islower
+    isspace isupper items join keys ljust lower lstrip partition pop remove replace reverse rfind
+    rjust rpartition rsplit rstrip setdefault split splitlines startswith strip update upper values
+    zfill bit_length
+""".split()
+
 BARRED_NODES = (
     ast.AsyncFunctionDef,
     ast.AsyncFor,
@@ -33,7 +40,7 @@ def bound_names(tree):
     """Return the names that the module binds anywhere: variables, parameters, functions, imports."""
     names = set()
     for node in ast.walk(tree):
-        if isinstance(node, ast.Name) and not isinstance(node.ctx, ast.Load):
+        if isinstance(node, ast.Name) and is_target(node):
             names.add(node.id)
         elif isinstance(node, ast.arg):
             names.add(node.arg)
@@ -42,6 +49,10 @@ def bound_names(tree):
         elif isinstance(node, ast.alias):
             names.add(node.asname or node.name)
     return names
+
+
+def is_target(name):
+    return not isinstance(name.ctx, ast.Load)
 
 
 def method_names(tree):
@@ -120,6 +131,29 @@ class LanguageTest(unittest.TestCase):
             barred = set(dir(builtins)) - set(ALLOWED_BUILTINS)
             self.assertEqual(sorted(names & barred), [])
             self.assertEqual(sorted((bound_names(tree) - method_names(tree)) & set(dir(builtins))), [])
+
+        self.check_each_tree(check)
+
+    def test_imports_and_classes_keep_their_names(self):
+        def check(tree):
+            names = [node.id for node in ast.walk(tree) if isinstance(node, ast.Name) and is_target(node)]
+            names += [node.arg for node in ast.walk(tree) if isinstance(node, ast.arg)]
+            taken = [alias.asname or alias.name for node in imports(tree) for alias in node.names]
+            taken += [node.name for node in tree.body if isinstance(node, ast.ClassDef)]
+            self.assertEqual(len(taken), len(set(taken)))
+            self.assertEqual(sorted(set(names) & set(taken)), [])
+
+        self.check_each_tree(check)
+
+    def test_only_the_methods_of_the_subset(self):
+        own = set()
+        for path in sources():
+            own |= method_names(ast.parse(path.read_text(encoding="utf-8")))
+
+        def check(tree):
+            calls = [node.func for node in ast.walk(tree) if isinstance(node, ast.Call)]
+            names = {func.attr for func in calls if isinstance(func, ast.Attribute)}
+            self.assertEqual(sorted(names - own - set(ALLOWED_METHODS)), [])
 
         self.check_each_tree(check)
 
