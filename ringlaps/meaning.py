@@ -11,7 +11,7 @@ from ringlaps.sayings import piece_is_true
 
 def meaning(net):
     """Return the turns and the row of houses to which each piece comes."""
-    return [_told_pair(net, piece) for piece in pieces(net)]
+    return [told_pair(net, piece) for piece in pieces(net)]
 
 
 def admitted(size, meaning, place, host):
@@ -42,7 +42,8 @@ def row_marks(size, turns, row):
     return marks
 
 
-def _told_pair(net, piece):
+def told_pair(net, piece):
+    """Return the turns and the row of houses to which one piece comes."""
     least = piece[0]
     if piece_is_true(net, least):
         return (turns_of(net, least), tuple(mark_row(net, least)))

@@ -95,6 +95,18 @@ FUNCTIONS = {
         "released": "(size, meaning, house)",
         "row_marks": "(size, turns, row)",
     },
+    "ringlaps.leaving": {
+        "is_quiet": "(net, house)",
+        "leave": "(net, house)",
+    },
+    "ringlaps.laps": {
+        "lap_saying": "(letter)",
+    },
+    "ringlaps.lookups": {
+        "answer": "(net, house, key)",
+        "ring_answers": "(net, house, key)",
+        "told_answer": "(net, house, key)",
+    },
 }
 
 CLASSES = {
@@ -139,6 +151,20 @@ CLASSES = {
             "tell_letter": "(self)",
             "ask_letter": "(self)",
             "hear": "(self, letter)",
+        },
+    },
+    "ringlaps.mender": {
+        "Mender": {
+            "__init__": "(self, net)",
+            "laps": "(self)",
+            "memory": "(self, house)",
+            "healers": "(self)",
+            "write_lap": "(self, house)",
+            "carry": "(self, at)",
+            "drop_lap": "(self, at)",
+            "repeat_lap": "(self, at)",
+            "calm_lap": "(self)",
+            "mend": "(self)",
         },
     },
 }
