@@ -1,7 +1,7 @@
 """Pieces that come to one plain ring although some of their sayings may be untrue."""
 
 from ringlaps.errors import Untold
-from ringlaps.pieces import on_ring, piece_of, turns_of, way_length
+from ringlaps.pieces import on_ring, piece_of, pieces, turns_of, way_length
 from ringlaps.sayings import piece_is_true, untrue_of_piece
 
 
@@ -39,6 +39,12 @@ def check_told(net, piece):
     least = piece[0]
     if not piece_is_true(net, least) and not clear_towards(net, least):
         raise Untold(least)
+
+
+def check_all_told(net):
+    """Raise Untold for the first piece that is neither true nor clear towards any house."""
+    for piece in pieces(net):
+        check_told(net, piece)
 
 
 def _fault_towards(net, z, untrue):

@@ -2,7 +2,7 @@
 
 from ringlaps.calm import settle
 from ringlaps.circle import between, far
-from ringlaps.clear import check_told
+from ringlaps.clear import check_all_told
 from ringlaps.errors import NotBetween, SamePiece
 from ringlaps.pieces import arrows_over, on_ring, piece_of, pieces, ring_of, turns_of, way_length
 
@@ -33,11 +33,9 @@ def meet(net, house, other):
 
 def heal(net):
     """Let the least house of the ring go in each true piece of several turns; return them."""
-    found = pieces(net)
-    for piece in found:
-        check_told(net, piece)
+    check_all_told(net)
     # Only a piece of one turn can be clear, so each of several turns is a true one here.
-    lapped = [piece[0] for piece in found if turns_of(net, piece[0]) > 1]
+    lapped = [piece[0] for piece in pieces(net) if turns_of(net, piece[0]) > 1]
     released = [ring_of(net, house)[0] for house in lapped]
     for house in released:
         let_go(net, house)

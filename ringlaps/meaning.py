@@ -2,7 +2,7 @@
 
 from ringlaps.circle import check_on_circle, far
 from ringlaps.clear import check_told
-from ringlaps.errors import NoHouse, TakenPlace
+from ringlaps.errors import NoHouse, TakenPlace, Untold
 from ringlaps.marks import mark_row
 from ringlaps.orders import from_least
 from ringlaps.pieces import pieces, turns_of
@@ -12,6 +12,14 @@ from ringlaps.sayings import piece_is_true
 def meaning(net):
     """Return the turns and the row of houses to which each piece comes."""
     return [told_pair(net, piece) for piece in pieces(net)]
+
+
+def meaning_or_none(net):
+    """Return the meaning of the net, or None if it has none."""
+    try:
+        return meaning(net)
+    except Untold:
+        return None
 
 
 def admitted(size, meaning, place, host):

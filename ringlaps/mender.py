@@ -22,6 +22,14 @@ class Mender:
         self._memories = {}
         self._healers = []
 
+    def clone(self):
+        """Return an independent mender that works on a clone of the net."""
+        twin = Mender(self.net.clone())
+        twin._laps = list(self._laps)
+        twin._memories = dict(self._memories)
+        twin._healers = list(self._healers)
+        return twin
+
     def laps(self):
         """Return the round letters under way, the oldest first."""
         return list(self._laps)

@@ -10,7 +10,7 @@ from ringlaps.cures import heal, healing_targets, let_go, meet, take_newcomer, u
 from ringlaps.ends import is_plain
 from ringlaps.errors import NoHouse, NotBetween, OffCircle, SamePiece, TakenPlace, Untold
 from ringlaps.net import Net
-from ringlaps.pieces import on_ring, piece_of, pieces, ring_of, turns_of
+from ringlaps.pieces import on_ring, piece_of, pieces, turns_of
 from ringlaps.sayings import piece_is_true
 
 GREAT = 1000000000

@@ -107,6 +107,25 @@ FUNCTIONS = {
         "ring_answers": "(net, house, key)",
         "told_answer": "(net, house, key)",
     },
+    "ringlaps.falls": {
+        "fall": "(net, fallen, *, ahead=2)",
+        "gaps": "(net, fallen, *, ahead=2)",
+    },
+    "ringlaps.deeds": {
+        "deed_text": "(deed)",
+        "parse_deed": "(line)",
+        "journal_text": "(net, deeds)",
+        "parse_journal": "(text)",
+    },
+    "ringlaps.desk": {
+        "replay": "(net, deeds)",
+    },
+    "ringlaps.audit": {
+        "audit": "(net, deeds)",
+        "next_meaning": "(size, meaning, deed, result)",
+        "first_surprise": "(net, deeds)",
+        "next_changes": "(net, deeds)",
+    },
 }
 
 CLASSES = {
@@ -165,6 +184,28 @@ CLASSES = {
             "repeat_lap": "(self, at)",
             "calm_lap": "(self)",
             "mend": "(self)",
+        },
+    },
+    "ringlaps.store": {
+        "Store": {
+            "__init__": "(self, net, copies=1)",
+            "holders": "(self, house, key)",
+            "put": "(self, house, key, worth)",
+            "find_worth": "(self, house, key)",
+            "kept": "(self, house)",
+            "move": "(self, net)",
+        },
+    },
+    "ringlaps.desk": {
+        "Desk": {
+            "__init__": "(self, net)",
+            "do": "(self, deed)",
+            "undo": "(self)",
+            "redo": "(self)",
+            "journal": "(self)",
+            "text": "(self)",
+            "do_all": "(self, deeds)",
+            "state": "(self)",
         },
     },
 }

@@ -21,6 +21,9 @@ ALLOWED_METHODS = """
     zfill bit_length
 """.split()
 
+# The name _ is none of Python's own, but doctest leaves it among them.
+BUILTINS = set(dir(builtins)) - {"_"}
+
 BARRED_NODES = (
     ast.AsyncFunctionDef,
     ast.AsyncFor,
@@ -44,7 +47,7 @@ def bound_names(tree):
             names.add(node.id)
         elif isinstance(node, ast.arg):
             names.add(node.arg)
-        elif isinstance(node, (ast.FunctionDef, ast.ClassDef)):
+        elif isinstance(node, (ast.FunctionDef, ast.ClassDef, ast.MatchAs)) and node.name:
             names.add(node.name)
         elif isinstance(node, ast.alias):
             names.add(node.asname or node.name)
@@ -128,9 +131,9 @@ class LanguageTest(unittest.TestCase):
     def test_only_the_builtins_of_the_subset(self):
         def check(tree):
             names = {node.id for node in ast.walk(tree) if isinstance(node, ast.Name)}
-            barred = set(dir(builtins)) - set(ALLOWED_BUILTINS)
+            barred = BUILTINS - set(ALLOWED_BUILTINS)
             self.assertEqual(sorted(names & barred), [])
-            self.assertEqual(sorted((bound_names(tree) - method_names(tree)) & set(dir(builtins))), [])
+            self.assertEqual(sorted((bound_names(tree) - method_names(tree)) & BUILTINS), [])
 
         self.check_each_tree(check)
 
