@@ -21,7 +21,7 @@ class Desk:
 
     def do(self, deed):
         """Perform and record the deed and return what its call returns."""
-        result = self._record(deed)
+        result = self._do_and_keep(deed)
         self._undone = []
         return result
 
@@ -39,7 +39,7 @@ class Desk:
         """Perform and record the deed that was taken back last, and return it."""
         if not self._undone:
             raise NothingToRedo()
-        self._record(self._undone[-1])
+        self._do_and_keep(self._undone[-1])
         return self._undone.pop()
 
     def do_all(self, deeds):
@@ -64,7 +64,7 @@ class Desk:
         laps = tuple(self.mender.laps())
         return (self.net.snapshot(), laps, tuple(memories), tuple(self.mender.healers()))
 
-    def _record(self, deed):
+    def _do_and_keep(self, deed):
         earlier = self.mender.clone()
         result = _perform(self.mender, deed)
         self._earlier.append(earlier)
